@@ -49,9 +49,11 @@ def breaches(sources):
         for tree in trees.values() for owner in ast.walk(tree) if isinstance(owner, ast.ClassDef)
         for node in owner.body if isinstance(node, ast.FunctionDef)
     }
+    values = given_values(trees)
     found = []
     for name, text in sources.items():
         rows = in_text(name, text) + at_top(trees[name]) + in_imports(trees[name], trees)
+        rows += in_locals(trees[name]) + in_values(trees[name], methods, values)
         for node in ast.walk(trees[name]):
             rows += in_node(node) + in_names(node) + in_calls(node, methods) + in_errors(node)
         found += [f"{name}:{row}: {words}" for row, words in rows]
@@ -218,6 +220,46 @@ def in_calls(node, methods):
         if node.func.attr not in OWN_METHODS | methods:
             return [(node.lineno, f"L25 the method {node.func.attr}")]
     return []
+
+
+def given_values(trees):
+    """The names of the values that objects are given anywhere."""
+    return {
+        node.attr for tree in trees.values() for node in ast.walk(tree)
+        if isinstance(node, ast.Attribute) and isinstance(node.ctx, ast.Store)
+    }
+
+
+def in_values(tree, methods, values):
+    """Tell the values that are called like a method, and those that are asked for but never given."""
+    called = {id(node.func) for node in ast.walk(tree) if isinstance(node, ast.Call)}
+    found = []
+    for node in ast.walk(tree):
+        if not isinstance(node, ast.Attribute) or node.attr in UNDERSCORED:
+            continue
+        if isinstance(node.ctx, ast.Store) and node.attr in methods:
+            found.append((node.lineno, f"L18 {node.attr} is a method and a value"))
+        if isinstance(node.ctx, ast.Load) and id(node) not in called and node.attr not in values:
+            found.append((node.lineno, f"L18 no class gives the value {node.attr}"))
+    return found
+
+
+def in_locals(tree):
+    """Tell the parameters, locals and inner defs that are called like a class or an import of their file."""
+    drawn = {alias.asname or alias.name for node in tree.body if isinstance(node, ast.ImportFrom)
+             for alias in node.names}
+    drawn |= {node.name for node in tree.body if isinstance(node, ast.ClassDef)}
+    found = []
+    for node in ast.walk(tree):
+        if isinstance(node, ast.Attribute) or node in tree.body:
+            continue
+        found += [(node.lineno, f"L15 {name} is a class or an import of its file")
+                  for name in given_by(node) if name in drawn and not is_method(node, tree)]
+    return found
+
+
+def is_method(node, tree):
+    return any(node in owner.body for owner in tree.body if isinstance(owner, ast.ClassDef))
 
 
 def in_errors(node):

@@ -38,6 +38,10 @@ BAD_ROWS = [
     "class A(ValueError, KeyError):\n    pass",
     "class A:\n    many = 1",
     "class A:\n    def f(self):\n        pass\n\n    def f(self):\n        pass",
+    "class A:\n    def f(self):\n        self.f = 1",
+    "def f(row):\n    return row.many",
+    "from firnfall.errors import Bad\n\n\ndef f(Bad):\n    return 1",
+    "class A:\n    pass\n\n\ndef f(row):\n    A = row\n    return A",
 ]
 
 
@@ -61,6 +65,10 @@ class LanguageTest(unittest.TestCase):
         errors = "class Bad(ValueError):\n    pass\n"
         text = "from firnfall.errors import Bad\n\n\ndef f(row):\n    if row is None:\n        raise Bad(\"no\")\n"
         self.assertEqual(breaches({"errors.py": errors, "other.py": text}), [])
+
+    def test_a_value_that_a_class_gives_may_be_asked(self):
+        text = "class A:\n    def __init__(self, row):\n        self.row = row\n\n    def f(self):\n        return self.row\n"
+        self.assertEqual(breaches({"one.py": text, "two.py": "def f(a):\n    return a.row\n"}), [])
 
     def test_files_that_draw_from_one_another_are_seen(self):
         sources = {
