@@ -7,29 +7,10 @@ from firnfall.ice import Ice
 from firnfall.lives import life, pile
 from firnfall.piles import depth
 from firnfall.rides import mark, span
-from plainwalk import Walk
-from samples import BEHIND, FAR, LAST_ASKED, LONG, ONE, SHORT, SPOT, SURGES, TOLD, TWELVE, TWO
-from samples import made, samples, standing
+from samples import BEHIND, FAR, LAST_ASKED, LONG, ONE, SETTLED, SHORT, SPOT, SURGES, TOLD, TWELVE, TWO, YEARS
+from samples import later_rows, made, standing, walks
 
 BAD_YEARS = (-1, LAST_ASKED + 1, -LAST_ASKED, FAR, -FAR)
-YEARS = 150
-# Behind this year no told weather and no surge is left in any column on a lane.
-SETTLED = 99 + 30
-
-
-def walks():
-    """For each lane of each sample the Ice, the lane and what a plain walk finds."""
-    found = []
-    for ice, told, surges in samples():
-        for lane in range(ice.many()):
-            slope = [ice.height(lane, place) for place in range(ice.length(lane))]
-            found.append((ice, lane, Walk(slope, ice.rows(), YEARS, told, surges.get(lane, {}))))
-    return found
-
-
-def later_rows(rows, years):
-    """The rows of a life, or the runs of a pile, so many years later."""
-    return [(row[0] + years, *row[1:]) for row in rows]
 
 
 class LifeTest(unittest.TestCase):

@@ -5,23 +5,11 @@ import unittest
 from firnfall.errors import BadYear, NoLane, NoPlace
 from firnfall.ice import Ice
 from firnfall.rides import mark, ridden, span, stands
-from plainwalk import Walk
-from samples import BEHIND, FAR, LAST_ASKED, LONG, ONE, SHORT, SIX, SPOT, SURGES, TWO, WAVES
-from samples import made, samples, standing
+from samples import BEHIND, FAR, LAST_ASKED, LONG, ONE, SHORT, SIX, SPOT, SURGES, TWO, WAVES, YEARS
+from samples import made, standing, walks
 
 BAD_YEARS = (-1, LAST_ASKED + 1, -LAST_ASKED, FAR, -FAR)
-YEARS = 180
 LEAST_MARK, GREATEST_MARK = -100, 10 ** 41
-
-
-def walks():
-    """For each lane of each sample the Ice, the lane and what a plain walk finds."""
-    found = []
-    for ice, told, surges in samples():
-        for lane in range(ice.many()):
-            slope = [ice.height(lane, place) for place in range(ice.length(lane))]
-            found.append((ice, lane, Walk(slope, ice.rows(), YEARS, told, surges.get(lane, {}))))
-    return found
 
 
 class RiddenTest(unittest.TestCase):
