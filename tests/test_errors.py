@@ -1,6 +1,9 @@
 import unittest
 
 from firnfall import errors
+from firnfall.book import Book
+from firnfall.ends import end_of
+from firnfall.pages import read
 
 NAMES = [
     "BadValley", "BadRound", "BadWeather", "BadYear", "BadSurge", "BadRock", "BadName", "BadHand", "BadDeed",
@@ -60,6 +63,37 @@ class ErrorsTest(unittest.TestCase):
     def test_bad_pages_keep_their_own_rows(self):
         first, second = errors.BadPage(1), errors.BadPage(2)
         self.assertEqual((first.row, second.row), (1, 2))
+
+    def test_each_is_made_somewhere(self):
+        valley, rows = [(-1, (60, 10))], [(50, 3, 2)]
+        full = Book(valley, rows)
+        for year in range(40):
+            full.do(("year", year, 5, 5, 5))
+        full.do(("stone", "ann", 0, 0, 5))
+        asks = {
+            "BadValley": lambda: Book([], rows),
+            "BadRound": lambda: Book(valley, []),
+            "BadWeather": lambda: full.do(("year", 0, 101, 5, 5)),
+            "BadYear": lambda: full.do(("year", 100, 5, 5, 5)),
+            "BadSurge": lambda: full.do(("surge", 0, 0, 10)),
+            "BadRock": lambda: full.do(("cliff", 0, 0, "A")),
+            "BadName": lambda: full.do(("stone", "", 0, 0, 5)),
+            "BadHand": lambda: end_of(full.ice(), 0, 0, 5, 9),
+            "BadDeed": lambda: full.do(()),
+            "NoLane": lambda: full.do(("calm", 1, 0)),
+            "NoPlace": lambda: full.do(("level", 0, 2)),
+            "NoName": lambda: full.rest("bob"),
+            "NotTold": lambda: full.do(("plain", 40)),
+            "NothingThere": full.again,
+            "Taken": lambda: full.do(("stone", "ann", 0, 0, 5)),
+            "Full": lambda: full.do(("year", 40, 5, 5, 5)),
+            "BadPage": lambda: read(""),
+        }
+        self.assertEqual(list(asks), NAMES)
+        for name, ask in asks.items():
+            with self.assertRaises(errors.FirnError) as taken:
+                ask()
+            self.assertIs(taken.exception.__class__, named(name))
 
 
 if __name__ == "__main__":
