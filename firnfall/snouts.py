@@ -1,15 +1,14 @@
 """The snouts of lanes: how far down there is ice, year by year."""
 
 from firnfall.ice import check_asked
-from firnfall.years import first_years, near_year, settled
+from firnfall.years import course, settled, year_row
 
 
 def snout(ice, lane, year):
     """Tell the greatest place of a lane that has ice at the end of a year, or None."""
     ice.check_lane(lane)
     check_asked(year)
-    near = near_year(ice, lane, year)
-    return lowest_ice(first_years(ice, lane, near + 1)[near])
+    return lowest_ice(year_row(ice, lane, year))
 
 
 def lowest_ice(row):
@@ -22,7 +21,7 @@ def snouts(ice, lane):
     """Tell how the row of a lane's snouts comes round: a beginning, and the round behind it."""
     ice.check_lane(lane)
     start = settled(ice, lane)
-    places = [lowest_ice(row) for row in first_years(ice, lane, start + len(ice.rows()))]
+    places = [lowest_ice(row) for row in course(ice, lane, 0, start + len(ice.rows()) - 1)]
     beginning = places[:start]
     again = shortest(places[start:])
     # A beginning that ends as the round does can leave its end to a round that begins one year sooner.

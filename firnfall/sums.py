@@ -1,15 +1,14 @@
 """Sums of the hands of ice of whole lanes: those of a year, and so far."""
 
 from firnfall.ice import check_asked
-from firnfall.years import first_years, near_year, settled
+from firnfall.years import course, settled, year_row
 
 
 def sums(ice, lane, year):
     """Tell `(fallen, melted, gone, lying)` of a lane in a year."""
     ice.check_lane(lane)
     check_asked(year)
-    near = near_year(ice, lane, year)
-    fallen, melted, gone, depths = first_years(ice, lane, near + 1)[near]
+    fallen, melted, gone, depths = year_row(ice, lane, year)
     return (fallen, melted, gone, sum(depths))
 
 
@@ -18,15 +17,15 @@ def so_far(ice, lane, year):
     ice.check_lane(lane)
     check_asked(year)
     start = settled(ice, lane)
-    near = near_year(ice, lane, year)
-    rows = first_years(ice, lane, start + len(ice.rows()))
-    rounds = (year - near) // len(ice.rows())
-    up_to = totals(rows[:near + 1])
-    each = totals(rows[start:])
-    fallen, melted, gone = [some + rounds * more for some, more in zip(up_to, each)]
-    return (fallen, melted, gone, sum(rows[near][3]))
+    many = len(ice.rows())
+    # Each whole round behind the settled year adds alike, so only one of them is gone through.
+    rounds = max(0, year - start) // many
+    rows = course(ice, lane, 0, start + many - 1)
+    up_to = rows[:year - rounds * many + 1]
+    fallen, melted, gone = [total(up_to, part) + rounds * total(rows[start:], part) for part in range(3)]
+    return (fallen, melted, gone, sum(up_to[-1][3]))
 
 
-def totals(rows):
-    """Tell what fell, what melted and what is gone in the years of these rows together."""
-    return [sum([row[part] for row in rows]) for part in range(3)]
+def total(rows, part):
+    """Tell the sum of one part of these rows."""
+    return sum([row[part] for row in rows])

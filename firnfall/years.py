@@ -1,4 +1,4 @@
-"""The years of a whole lane: what its first years do, and the near years that far ones are like."""
+"""The years of a whole lane: what falls on it, melts, goes off and lies on it, and when all comes round."""
 
 from firnfall.weather import change
 
@@ -10,27 +10,26 @@ def settled(ice, lane):
     return max(told, default=-1) + 1 + ice.length(lane)
 
 
-def near_year(ice, lane, year):
-    """Tell a year at most one round behind the settled one in which a lane does the same as in this year."""
-    start = settled(ice, lane)
-    if year < start:
-        return year
-    return start + (year - start) % len(ice.rows())
-
-
-def first_years(ice, lane, many):
-    """Tell, for each of so many first years, a row `(fallen, melted, gone, depths)` of a lane."""
+def course(ice, lane, first, last):
+    """Tell a row `(fallen, melted, gone, depths)` for each of some years of a lane that is bare ahead of them."""
     slope = [ice.height(lane, place) for place in range(ice.length(lane))]
     leaps = dict(ice.surges(lane))
     depths = [0 for height in slope]
     rows = []
-    for year in range(many):
-        # All is bare ahead of the year 0, so that nothing tells whether it rode into it.
+    for year in range(first, last + 1):
+        # Nothing tells whether a bare lane rode into its first year.
         steps = min(1 + leaps.get(year, 0), len(slope))
         gone = sum(depths[-steps:])
         depths = [0 for step in range(steps)] + depths[:-steps]
-        moved = [max(-lying, change(ice.sky(year), height)) for lying, height in zip(depths, slope)]
+        weather = ice.sky(year)
+        moved = [max(-lying, change(weather, height)) for lying, height in zip(depths, slope)]
         depths = [lying + hands for lying, hands in zip(depths, moved)]
         fallen = sum([hands for hands in moved if hands > 0])
         rows.append((fallen, fallen - sum(moved), gone, depths))
     return rows
+
+
+def year_row(ice, lane, year):
+    """Tell the row `(fallen, melted, gone, depths)` of a lane in a year."""
+    # What lies there, or goes off, came onto the lane in no more years than there are places.
+    return course(ice, lane, max(0, year - ice.length(lane)), year)[-1]
